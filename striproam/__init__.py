@@ -1,0 +1,1 @@
+"""Striproam: machines that read a strip to and fro."""
