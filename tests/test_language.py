@@ -19,6 +19,9 @@ OWN_METHODS = set(
     " items join keys ljust lower lstrip partition pop remove replace reverse rfind rjust rpartition rsplit rstrip"
     " setdefault split splitlines startswith strip update upper values zfill bit_length".split()
 )
+VALUES_FREE = set("count index title find get join lower upper split strip copy add".split())
+WALKED = set("zip enumerate reversed range items keys values".split())
+TAKERS = set("list tuple dict sorted sum any all enumerate zip".split())
 DUNDERS = {"__init__", "__eq__", "__repr__", "__str__", "__len__"}
 NAMES_OUT = set(
     "register mro elements open input version_info with_traceback add_note attrgetter breakpoint builtins compile"
@@ -53,6 +56,11 @@ def bound_names(node):
     if isinstance(node, ast.ImportFrom):
         return [alias.name for alias in node.names]
     return []
+
+
+def called(node):
+    """The name or method that a call calls."""
+    return getattr(node.func, "id", getattr(node.func, "attr", None))
 
 
 def own_methods():
@@ -202,6 +210,50 @@ class Code(unittest.TestCase):
     def check_name(self, name, where):
         self.assertRegex(name, r"\A[A-Za-z][A-Za-z0-9_]*\Z", where)
         self.assertNotIn(name, NAMES_OUT, where)
+
+    def test_parameters_and_locals_are_not_called_like_a_class_or_an_import(self):
+        for path in FILES:
+            taken = {
+                name for node in parsed(path).body if isinstance(node, (ast.ClassDef, ast.ImportFrom))
+                for name in bound_names(node)
+            }
+            for node in ast.walk(parsed(path)):
+                if isinstance(node, ast.arg):
+                    self.assertNotIn(node.arg, taken, path)
+                if isinstance(node, ast.Name) and isinstance(node.ctx, ast.Store):
+                    self.assertNotIn(node.id, taken, path)
+
+    def test_values_of_objects(self):
+        own = [*dir(""), *dir(0), *dir([]), *dir({}), *dir(set()), *dir(b"")]
+        values = {
+            node.attr for where, node in self.each_node()
+            if isinstance(node, ast.Attribute) and isinstance(node.ctx, ast.Store)
+        }
+        self.assertEqual(values & own_methods(), set())
+        self.assertEqual((values - VALUES_FREE) & {*own, "args"}, set())
+        self.assertEqual(own_methods() & (NAMES_OUT | {*own} - OWN_METHODS - DUNDERS - {"add", "discard"}), set())
+
+    def test_no_annotations(self):
+        for where, node in self.each_node():
+            self.assertIsNone(getattr(node, "annotation", None), where)
+            self.assertIsNone(getattr(node, "returns", None), where)
+
+    def test_walked_at_once(self):
+        for path in FILES:
+            tree = parsed(path)
+            on_the_spot = {id(node.iter) for node in ast.walk(tree) if isinstance(node, (ast.For, ast.comprehension))}
+            for node in ast.walk(tree):
+                if isinstance(node, ast.Call) and called(node) in TAKERS:
+                    on_the_spot.update(id(part) for part in node.args[:1])
+            for node in ast.walk(tree):
+                if isinstance(node, ast.Call) and called(node) in WALKED:
+                    self.assertIn(id(node), on_the_spot, f"{path.name}:{node.lineno}")
+
+    def test_no_set_is_kept(self):
+        for where, node in self.each_node():
+            self.assertNotIsInstance(node, ast.Set, where)
+            if isinstance(node, ast.Name):
+                self.assertNotIn(node.id, ("set", "frozenset"), where)
 
     def test_methods(self):
         known = OWN_METHODS | own_methods() | {"__init__"}
