@@ -63,9 +63,17 @@ def signs_of(machine):
     return len(machine[0][1])
 
 
-def checked(machine, strip):
-    known = SIGNS[:signs_of(machine)]
+def cells_of(machine, number):
+    return [row[1][number] for row in machine]
+
+
+def checked_by(signs, strip):
+    known = SIGNS[:signs]
     for at, sign in enumerate(strip):
         if sign not in known:
             raise NoStrip(at)
     return strip
+
+
+def checked(machine, strip):
+    return checked_by(signs_of(machine), strip)

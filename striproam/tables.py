@@ -1,6 +1,6 @@
 """Tables: what a machine does within a strip, no marks being there."""
 
-from striproam.machines import SIGNS, STOPS, checked, signs_of
+from striproam.machines import SIGNS, STOPS, cells_of, checked, signs_of
 
 
 def still(rooms):
@@ -11,10 +11,8 @@ def still(rooms):
 
 def sign_table(machine, sign):
     checked(machine, sign)
-    number = SIGNS.index(sign)
-    cells = [row[1][number] for row in machine]
     # On one sign it is all the same from which end the machine came in.
-    things = tuple([(cell[1], cell[0]) for cell in cells])
+    things = tuple([(cell[1], cell[0]) for cell in cells_of(machine, SIGNS.index(sign))])
     return (things, things)
 
 

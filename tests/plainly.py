@@ -157,3 +157,55 @@ def looked_through(machine, strip, paper):
     except Refusal:
         return False
     return sorted(words, key=str) == sorted([word, None], key=str)
+
+
+def plain_coming_out(machine, strip, place, room):
+    """The room in which it goes out over the right end, the left mark being there; else by, out or ever."""
+    for step in range(most_stands(machine, strip)):
+        if place == len(strip) + 1:
+            return room
+        if place == 0:
+            if machine[room][0] in ("by", "out"):
+                return machine[room][0]
+            into, way = machine[room][0], 1
+        else:
+            into, way = machine[room][1]["abc".index(strip[place - 1])]
+        place, room = place + way, into
+    return "ever"
+
+
+def plain_beginning(machine, strip):
+    return (
+        plain_coming_out(machine, strip, 0, 0),
+        tuple(plain_coming_out(machine, strip, len(strip), room) for room in range(len(machine))),
+    )
+
+
+def plain_one_way(machine, most):
+    """Its rows and words, each room by a strip that has it and is walked anew; None where there are more than most."""
+    found, begun, rows = [""], {plain_beginning(machine, ""): 0}, []
+    for strip in found:
+        row = []
+        for sign in "abc"[:len(machine[0][1])]:
+            number = begun.setdefault(plain_beginning(machine, strip + sign), len(found))
+            if number == len(found):
+                found.append(strip + sign)
+            row.append(number)
+        if len(found) > most:
+            return None
+        rows.append(tuple(row))
+    return (tuple(rows), tuple(plain_word(machine, strip) for strip in found))
+
+
+def drawn_reader(source, rooms, signs, words=("by", "out", "ever")):
+    """A one-way machine."""
+    return (
+        tuple(tuple(source.randrange(rooms) for sign in range(signs)) for room in range(rooms)),
+        tuple(source.choice(words) for room in range(rooms)),
+    )
+
+
+def plain_room(reader, strip, room=0):
+    for sign in strip:
+        room = reader[0][room]["abc".index(sign)]
+    return room

@@ -261,6 +261,24 @@ class Code(unittest.TestCase):
             if isinstance(node, ast.Call) and isinstance(node.func, ast.Attribute):
                 self.assertIn(node.func.attr, known, where)
 
+    def test_no_two_lambdas_alike_on_one_line(self):
+        places = [
+            (where, tuple(part.arg for part in node.args.args))
+            for where, node in self.each_node() if isinstance(node, ast.Lambda)
+        ]
+        self.assertEqual(len(places), len(set(places)))
+
+    def test_powers_have_a_written_exponent(self):
+        for where, node in self.each_node():
+            if isinstance(node, ast.BinOp) and isinstance(node.op, ast.Pow):
+                self.assertIsInstance(node.right, ast.Constant, where)
+
+    def test_errors_taken_are_the_programs_own_or_free(self):
+        own = {node.name for node in parsed(PACKAGE / "errors.py").body if isinstance(node, ast.ClassDef)}
+        for where, node in self.each_node():
+            if isinstance(node, ast.ExceptHandler):
+                self.assertIn(node.type.id, own | {"KeyError", "ZeroDivisionError", "StopIteration"}, where)
+
 
 if __name__ == "__main__":
     unittest.main()
