@@ -74,12 +74,14 @@ def signs_by(reader):
     return len(reader[0][0])
 
 
-def room_by(reader, strip):
-    checked_by(signs_by(reader), strip)
-    room = 0
+def room_from(reader, room, strip):
     for sign in strip:
         room = reader[0][room][SIGNS.index(sign)]
     return room
+
+
+def room_by(reader, strip):
+    return room_from(reader, 0, checked_by(signs_by(reader), strip))
 
 
 def word_by(reader, strip):

@@ -4,6 +4,7 @@ from striproam.errors import NoText
 from striproam.machines import SIGNS, STOPS, machine_of
 
 FIGURES = "0123456789"
+MOST_FIGURES = 2
 ARROWS = {1: ">", -1: "<"}
 ARROW_STEPS = {">": 1, "<": -1}
 
@@ -21,21 +22,21 @@ def machine_text(machine):
     return " ".join([row_text(row) for row in machine])
 
 
-def is_number(part):
+def is_number(part, most):
     if part == "0":
         return True
-    if not 1 <= len(part) <= 2 or part[0] == "0":
+    if not 1 <= len(part) <= most or part[0] == "0":
         return False
     return all([sign in FIGURES for sign in part])
 
 
 def is_turn_text(part):
-    return part in STOPS or is_number(part)
+    return part in STOPS or is_number(part, MOST_FIGURES)
 
 
 def is_cell_text(part):
     # A slice, for a part without signs has no last sign to index.
-    return part[-1:] in ARROW_STEPS and is_number(part[:-1])
+    return part[-1:] in ARROW_STEPS and is_number(part[:-1], MOST_FIGURES)
 
 
 def is_row_text(parts):

@@ -1,17 +1,25 @@
 """What the document promises over the whole program: the same is told in all its ways."""
 
+import copy
 import random
 import unittest
 
 from plainly import drawn_machine, drawn_strip, plain_word, strips
 
+from striproam.again import comes_round
 from striproam.comparing import compared, held, shows_alike
-from striproam.errors import TooMany
+from striproam.desk import Desk
+from striproam.errors import NoStrip, TooMany
+from striproam.gathering import all_tables, products
+from striproam.joining import both, either, swapped, turned_about
 from striproam.least import lead, least, least_of, parting
-from striproam.machines import machine_of, signs_of
-from striproam.oneway import one_way, room_by, word_by
-from striproam.tables import behind, said, sign_table, still, table_of
-from striproam.walks import sayer, walk
+from striproam.machines import checked, machine_of, signs_of
+from striproam.oneway import beginning, one_way, room_by, word_by
+from striproam.papers import holds
+from striproam.stopping import first_strip, stopping
+from striproam.tables import behind, mirrored, said, sign_table, still, table_of, turned
+from striproam.texts import machine_text, read_machine
+from striproam.walks import path, sayer, walk
 
 LENGTHS = (0, 1, 2, 3, 7, 30, 150, 400)
 
@@ -88,6 +96,51 @@ class OneWord(unittest.TestCase):
         self.assertGreater(tried, 10)
 
 
+    def test_the_machine_that_always_stops_and_the_one_turned_about(self):
+        source = random.Random(137)
+        seen = set()
+        for machine, reader in machines_read_one_way(60, 6, 138):
+            try:
+                always = stopping(machine)
+            except TooMany:
+                continue
+            about = turned_about(machine)
+            for length in LENGTHS:
+                strip = drawn_strip(source, machine, length)
+                word = plain_word(machine, strip)
+                seen.add(word)
+                self.assertEqual(walk(always, strip).says(), "out" if word == "ever" else word)
+                self.assertEqual(walk(about, strip[::-1]).says(), word)
+                self.assertEqual(walk(swapped(machine), strip).says(), {"by": "out", "out": "by"}.get(word, word))
+                self.assertEqual(word_by(least_of(always), strip), walk(always, strip).says())
+        self.assertEqual(seen, {"by", "out", "ever"})
+
+    def test_what_comes_round(self):
+        source = random.Random(139)
+        for machine, reader in machines_read_one_way(40, 5, 140):
+            ahead, again, behind_it = [drawn_strip(source, machine, length) for length in (3, 2, 2)]
+            start, length, words = comes_round(machine, ahead, again, behind_it)
+            for times in range(30):
+                known = times if times < start else start + (times - start) % length
+                self.assertEqual(plain_word(machine, ahead + again * times + behind_it), words[known])
+
+    def test_a_walk_comes_with_what_shows_it(self):
+        source = random.Random(141)
+        for number in range(60):
+            machine = drawn_machine(source, source.randint(1, 8), source.randint(1, 3), 30)
+            for length in LENGTHS[:6]:
+                strip = drawn_strip(source, machine, length)
+                ending = walk(machine, strip)
+                self.assertTrue(holds(machine, strip, ending.paper()))
+                if ending.stops():
+                    for crossed in ending.borders:
+                        for rooms in (crossed[::2], crossed[1::2]):
+                            self.assertEqual(len(rooms), len(set(rooms)))
+                else:
+                    stands = path(machine, strip)
+                    self.assertEqual([stands[ending.first], stands[ending.again]], [(ending.place, ending.room)] * 2)
+
+
 class LeastForms(unittest.TestCase):
     def test_the_same_for_machines_that_say_the_same(self):
         source = random.Random(133)
@@ -132,6 +185,130 @@ class LeastForms(unittest.TestCase):
                             if (len(strip), strip) < (len(shown), shown):
                                 self.assertEqual(plain_word(one, strip), plain_word(other, strip))
         self.assertGreater(min(alike, unlike), 200)
+
+    def test_joined_in_two_orders(self):
+        found = machines_read_one_way(80, 2, 142, stops=60)
+        tried = 0
+        for one, reader in found[::2]:
+            for two, second in found[1::2]:
+                if signs_of(one) != signs_of(two) or "ever" in reader[1] + second[1]:
+                    continue
+                tried += 1
+                # Where neither goes for ever, it is all the same which comes first, and not either is both not.
+                self.assertEqual(compared(either(one, two), either(two, one))[0], "alike")
+                self.assertEqual(least_of(swapped(either(one, two))), least_of(both(swapped(two), swapped(one))))
+        self.assertGreater(tried, 50)
+
+
+EXAMPLE = read_machine("1,0>,1<,out 0,1>,0>,by")
+
+
+class AnotherSign(unittest.TestCase):
+    def askers(self, machine):
+        """All that takes a strip, each with one strip alone left open."""
+        reader = one_way(machine)
+        desk = Desk()
+        desk.told(f"keep x {machine_text(machine)}")
+        return [
+            lambda strip: checked(machine, strip),
+            lambda strip: path(machine, strip),
+            lambda strip: walk(machine, strip),
+            sayer(machine),
+            lambda strip: holds(machine, strip, ("by", ())),
+            lambda strip: holds(machine, strip, ("ever", 0, 0, 0, 1)),
+            lambda strip: table_of(machine, strip),
+            lambda strip: beginning(machine, strip),
+            lambda strip: room_by(reader, strip),
+            lambda strip: word_by(reader, strip),
+            lambda strip: comes_round(machine, strip, "a", "a"),
+            lambda strip: comes_round(machine, "a", strip, "a"),
+            lambda strip: comes_round(machine, "a", "a", strip),
+            lambda strip: comes_round(machine, strip, strip),
+            lambda strip: desk.told(f"walk x {strip}"),
+            lambda strip: desk.told(f"border x {strip} 0"),
+            lambda strip: desk.told(f"again x {strip} a a"),
+            lambda strip: desk.told(f"again x a {strip} a"),
+            lambda strip: desk.told(f"again x a a {strip}"),
+        ]
+
+    def test_refused_by_its_number(self):
+        for text, bad in (("0,0>,by", "bcAd-0.z"), ("0,0>,0>,by", "cABd-0.z"), ("0,0>,0>,0>,by", "dABC+0.z")):
+            machine = read_machine(text)
+            for ask in self.askers(machine):
+                for sign in bad:
+                    for strip, at in (
+                        (sign + "a", 0), ("a" + sign, 1), ("a" * 7 + sign + "aa", 7), ("aa" + sign * 3, 2),
+                        ("a" * 399 + sign, 399), (sign + bad[::-1], 0),
+                    ):
+                        with self.assertRaises(NoStrip) as caught:
+                            ask(strip)
+                        self.assertEqual(caught.exception.at, at)
+                ask("a" * 20)
+
+    def test_of_one_sign_alone(self):
+        for text, bad in (("0,0>,by", "bc"), ("0,0>,0>,by", "cd"), ("0,0>,0>,0>,by", "dA")):
+            for sign in bad:
+                with self.assertRaises(NoStrip) as caught:
+                    sign_table(read_machine(text), sign)
+                self.assertEqual(caught.exception.at, 0)
+
+    def test_the_signs_that_there_are(self):
+        for text, strip in (("0,0>,by", "aa"), ("0,0>,0>,by", "abba"), ("0,0>,0>,0>,by", "cabcab")):
+            for ask in self.askers(read_machine(text)):
+                ask(strip)
+
+
+class AskedAgain(unittest.TestCase):
+    def askers(self, machine):
+        reader = one_way(machine)
+        table = table_of(machine, "ab")
+        rows = [list(row) for row in machine]
+        pairs = held(reader, least(reader))[1]
+        paper = walk(machine, "ab").paper()
+        return [
+            (machine_of, rows), (machine_text, machine), (read_machine, machine_text(machine)), (signs_of, machine),
+            (checked, machine, "ab"), (path, machine, "bb"), (holds, machine, "ab", paper), (still, 3),
+            (sign_table, machine, "a"), (behind, table, table), (table_of, machine, "abb"), (said, machine, table),
+            (turned, table), (mirrored, machine), (all_tables, machine), (products, machine), (beginning, machine, "ab"),
+            (one_way, machine), (room_by, reader, "ab"), (word_by, reader, "ab"), (least, reader), (least_of, machine),
+            (lead, reader, 1), (parting, reader, 0, 1), (held, reader, least(reader)), (compared, machine, machine),
+            (shows_alike, reader, least(reader), pairs), (first_strip, machine, "out"), (stopping, machine),
+            (swapped, machine), (either, machine, machine), (both, machine, machine), (turned_about, machine),
+            (comes_round, machine, "a", "ab", "b"), (lambda *asked: walk(*asked).paper(), machine, "ab"),
+        ]
+
+    def test_nothing_handed_in_is_changed_and_the_same_is_told(self):
+        askers = self.askers(EXAMPLE)
+        before = copy.deepcopy([asked for function, *asked in askers])
+        told = [function(*asked) for function, *asked in askers]
+        kept = copy.deepcopy(told)
+        self.assertEqual([function(*asked) for function, *asked in askers[::-1]], kept[::-1])
+        self.assertEqual([asked for function, *asked in askers], before)
+        self.assertEqual(told, kept)
+
+    def test_lists_told_are_new(self):
+        for function, *asked in self.askers(EXAMPLE):
+            one, other = function(*asked), function(*asked)
+            for first, second in zip(self.lists_in(one), self.lists_in(other), strict=True):
+                self.assertIsNot(first, second)
+                first.clear()
+            self.assertEqual(function(*asked), other)
+
+    def lists_in(self, told):
+        if not isinstance(told, (list, tuple)):
+            return []
+        within = [part for thing in told for part in self.lists_in(thing)]
+        return within + [told] if isinstance(told, list) else within
+
+    def test_what_is_changed_after_it_was_handed_in(self):
+        rows = [[1, [[0, 1], [1, -1]], "out"], [0, [[1, 1], [0, 1]], "by"]]
+        machine = machine_of(rows)
+        says = sayer(machine)
+        rows[0][1][0][0] = 1
+        rows[0][0] = "by"
+        rows.pop()
+        self.assertEqual(machine, EXAMPLE)
+        self.assertEqual([says(strip) for strip in ("", "b", "bb")], ["by", "out", "ever"])
 
 
 if __name__ == "__main__":
